@@ -62,6 +62,9 @@ class Kept(unittest.TestCase):
         self.assertEqual(self.kept("0 4", row), [0, 1, 6, 11])
         self.assertEqual(self.kept("4 4", row + [0] * 4), [0, 1, 2, 11])
 
+    def test_untold_keeps_none_ahead_and_none_behind(self):
+        self.assertEqual(last(one(0, 1, 1), *crosses([0, 1, 0, 0]), ("kept", 1)), [0, 1, 1, 2])
+
     def test_only_known_crossings(self):
         self.assertEqual(self.kept("4 0", [1, 1, 1, 1]), [0, 0])
         self.assertEqual(self.kept("4 0", [1, 1, 1, 1, 1]), [0, 1, 0, 1])
@@ -118,6 +121,21 @@ class Fates(unittest.TestCase):
         text = ("settings", "buffer 400 rate 3 high 9 low 4")
         found = ask(text, *[("cross", asked, []) for asked in (1, 1, 0, 0, 0, 1)])
         self.assertEqual([answer[2:] for answer in found[1:]], [[8, 0], [13, 1], [10, 1], [7, 1], [4, 0], [9, 0]])
+
+    def test_untold_high_mark(self):
+        # 23 bytes come and 20 go: 200 are in the buffer behind the 60th crossing.
+        calls = [("settings", channels_text(8)), ("times", 60, 1, [4095] * 8), ("cross", 1, [2047] * 8)]
+        self.assertEqual(ask(*calls)[1:], [[0, 60, 200, 0], [0, 1, 201, 1]])
+
+    def test_untold_low_mark(self):
+        longest, middle, none = [4095] * 8, [2047] * 8, [0] * 8
+        calls = [("settings", channels_text(8)), ("times", 60, 1, longest), ("cross", 1, middle)]
+        found = ask(*calls, ("times", 5, 0, none), ("cross", 0, none))
+        self.assertEqual(found[3:], [[0, 0, 101, 1], [0, 0, 81, 0]])
+        # Seen late, it is filled up to 220 before it empties by 20 at a time.
+        calls = [("settings", channels_text(8, "delay 8")), ("times", 66, 1, longest), ("times", 2, 1, middle)]
+        found = ask(*calls, ("times", 5, 0, none), ("cross", 0, none))
+        self.assertEqual(found[2:], [[0, 2, 220, 1], [0, 0, 120, 1], [0, 0, 100, 0]])
 
     def test_marks_alike(self):
         text = ("settings", "buffer 400 rate 1 high 7 low 7")
