@@ -1,9 +1,11 @@
 """The calls: what each is handed, when it is refused, and what it answers."""
 
-from frontends.frames import most_bytes
-from frontends.fullness import margin_of
+from frontends.frames import check_of, frame_of, most_bytes
+from frontends.fullness import margin_of, play_row, worst_row
+from frontends.hearing import Hearing
 from frontends.readout import DEAD_BY_BUSY, DEAD_BY_GAP, NOT_ASKED, TAKEN, WENT_IN, Readout
 from frontends.settings import MOST_CHANNELS, Fault, Settings, one_text, read_settings
+from frontends.telling import counted_pairs, lowest_terms, stretches_of
 
 OUT_OF_RANGE = -1
 TEXT_HAS_FAULT = -3
@@ -11,7 +13,9 @@ TOO_MANY_CROSSINGS = -4
 NOT_THERE = -5
 NOT_ONE_EACH = -6
 NOT_TAKEN = -7
+NOT_RISING = -7
 NOT_KNOWN = -8
+ABOVE_GREATEST = -9
 
 LONGEST_TEXT = 1000
 GREATEST_BYTE = 255
@@ -21,13 +25,19 @@ MOST_CROSSINGS = 400
 MOST_OFTEN = 100
 FARTHEST_BYTE = 20000
 MOST_BYTES_ASKED = 300
+MOST_YIELDS = 500
+GREATEST_YIELD = 100
+MOST_BYTES_FED = 400
+MOST_SIGNS = 100
+GREATEST_SIGN = 127
 
 
 class FrontEnd:
-    """The object that a list's calls are on; its readout holds the settings too."""
+    """The object that a list's calls are on: what came and what was heard; the readout holds the settings too."""
 
     def __init__(self):
         self.readout = Readout(Settings([], {}))
+        self.hearing = Hearing(0)
 
 
 def row_fits(row, longest, greatest):
@@ -56,17 +66,15 @@ def refused_channel(readout, channel):
     return 0
 
 
-def stretches_of(marks):
-    """Gives how many stretches of true marks there are, then where each begins and ends."""
-    edges = []
-    inside = False
-    for place, mark in enumerate(marks):
-        if mark != inside:
-            edges.append(place)
-            inside = mark
-    if inside:
-        edges.append(len(marks))
-    return [len(edges) // 2] + edges
+def pairs_fit(channels, samples):
+    """Tells whether the two halves of a row of pairs are as told; an odd row has a channel too many."""
+    if len(channels) != len(samples) or not samples_fit(samples):
+        return False
+    return all([1 <= channel <= MOST_CHANNELS for channel in channels])
+
+
+def rises(row):
+    return all([row[place] < row[place + 1] for place in range(len(row) - 1)])
 
 
 def tell_settings(front, numbers, text):
@@ -76,8 +84,9 @@ def tell_settings(front, numbers, text):
         settings = read_settings(text)
     except Fault:
         return [TEXT_HAS_FAULT]
-    front.readout = Readout(settings)
     channels = len(settings.channels)
+    front.readout = Readout(settings)
+    front.hearing = Hearing(channels)
     return [0, channels, most_bytes(channels)]
 
 
@@ -181,6 +190,86 @@ def show_margin(front, numbers, row):
     return [0, margin, settings.depth, 1 if margin <= settings.depth else 0]
 
 
+def show_worst(front, numbers, row):
+    yields = worst_row(front.readout.settings)
+    return [0, len(yields)] + yields
+
+
+def play_yields(front, numbers, yields):
+    if not row_fits(yields, MOST_YIELDS, GREATEST_YIELD):
+        return [OUT_OF_RANGE]
+    settings = front.readout.settings
+    if max(yields, default=0) > most_bytes(len(settings.channels)):
+        return [ABOVE_GREATEST]
+    return [0] + play_row(settings, yields)
+
+
+def pack_frame(front, numbers, pairs):
+    crossing = numbers[0]
+    channels = pairs[0::2]
+    samples = pairs[1::2]
+    if not 0 <= crossing <= GREATEST_CROSSING or not pairs_fit(channels, samples):
+        return [OUT_OF_RANGE]
+    told = [None] * len(front.readout.settings.channels)
+    if max(channels, default=0) > len(told):
+        return [NOT_THERE]
+    if not rises(channels):
+        return [NOT_RISING]
+    for channel, sample in zip(channels, samples):
+        told[channel - 1] = sample
+    return [0] + frame_of(crossing, told)
+
+
+def feed_bytes(front, numbers, octets):
+    if not row_fits(octets, MOST_BYTES_FED, GREATEST_BYTE):
+        return [OUT_OF_RANGE]
+    hearing = front.hearing
+    bad_before = hearing.bad
+    frames = hearing.hear(octets)
+    answer = [0, len(frames)]
+    for frame in frames:
+        answer.append(frame[0])
+        answer.extend(counted_pairs(frame[1]))
+    answer.append(hearing.bad - bad_before)
+    return answer
+
+
+def show_heard(front, numbers, row):
+    hearing = front.hearing
+    return [0, hearing.read, hearing.bad, -1 if hearing.begun is None else len(hearing.begun)]
+
+
+def show_check(front, numbers, signs):
+    if not row_fits(signs, MOST_SIGNS, GREATEST_SIGN):
+        return [OUT_OF_RANGE]
+    return [0] + check_of(signs)
+
+
+def hush(front, numbers, row):
+    front.hearing = Hearing(len(front.readout.settings.channels))
+    return [0]
+
+
+def show_live(front, numbers, row):
+    fates = front.readout.fates
+    asked = len(fates) - fates.count(NOT_ASKED)
+    # None asked for is told as none of one.
+    return [0] + lowest_terms(fates.count(TAKEN), max(1, asked))
+
+
+def show_dead(front, numbers, row):
+    readout = front.readout
+    return [0] + stretches_of([readout.busy_seen(crossing) for crossing in range(readout.crossings())])
+
+
+def show_state(front, numbers, row):
+    settings = front.readout.settings
+    answer = [0, len(settings.channels), settings.ahead, settings.behind]
+    answer.extend([settings.depth, settings.rate, settings.high_mark, settings.low_mark])
+    answer.extend([settings.delay, settings.gap, front.readout.crossings()])
+    return answer
+
+
 # By a call's number: how many whole numbers it has, whether a row stands behind them, and
 # what answers it.
 CALLS = {
@@ -195,6 +284,16 @@ CALLS = {
     8: (0, False, show_counts),
     9: (1, False, show_frame),
     10: (0, False, show_margin),
+    11: (0, False, show_worst),
+    12: (0, True, play_yields),
+    13: (1, True, pack_frame),
+    14: (0, True, feed_bytes),
+    15: (0, False, show_heard),
+    16: (0, True, show_check),
+    17: (0, False, hush),
+    18: (0, False, show_live),
+    19: (0, False, show_dead),
+    20: (0, False, show_state),
 }
 
 

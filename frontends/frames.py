@@ -1,4 +1,4 @@
-"""Frames: a crossing's kept samples as bits, signs, a check, and bytes."""
+"""Frames: a crossing's kept samples as bits, signs, a check, and bytes; and read out of these again."""
 
 FRAME_BEGINS = 128
 FRAME_ENDS = 129
@@ -21,16 +21,17 @@ def bits_of(number, width):
     return [(number >> (width - 1 - place)) & 1 for place in range(width)]
 
 
+def number_of(bits):
+    number = 0
+    for bit in bits:
+        number = number * 2 + bit
+    return number
+
+
 def signs_of(bits):
     """Cuts bits into signs, with zero bits behind the last ones to fill."""
     filled = bits + [0] * (-len(bits) % SIGN_BITS)
-    signs = []
-    for start in range(0, len(filled), SIGN_BITS):
-        sign = 0
-        for bit in filled[start:start + SIGN_BITS]:
-            sign = sign * 2 + bit
-        signs.append(sign)
-    return signs
+    return [number_of(filled[start:start + SIGN_BITS]) for start in range(0, len(filled), SIGN_BITS)]
 
 
 def check_of(signs):
@@ -57,6 +58,34 @@ def frame_of(crossing, samples):
     signs = signs_of(bits)
     checked = [len(signs)] + signs
     return [FRAME_BEGINS] + checked + check_of(checked) + [FRAME_ENDS]
+
+
+def read_frame(inside, channels):
+    """Gives (crossing, samples) of the frame of so many channels that has just this between its ends.
+
+    The samples are as frame_of takes them. None is given if there's no such frame.
+    """
+    bits = []
+    for sign in inside[1:-2]:
+        bits.extend(bits_of(sign, SIGN_BITS))
+    marks_end = NUMBER_BITS + channels
+    place = marks_end + WIDTH_BITS
+    width = number_of(bits[marks_end:place])
+    if len(bits) < place or width > SAMPLE_BITS:
+        return None
+    crossing = number_of(bits[:NUMBER_BITS])
+    samples = []
+    for mark in bits[NUMBER_BITS:marks_end]:
+        if mark == 0:
+            samples.append(None)
+        else:
+            samples.append(number_of(bits[place:place + width]))
+            place += width
+    # A wrong count or check, bits that lack or aren't the fewest, and bytes that are no signs
+    # all show in this: made anew, the frame is another one.
+    if frame_of(crossing, samples) != [FRAME_BEGINS] + inside + [FRAME_ENDS]:
+        return None
+    return (crossing, samples)
 
 
 def most_bytes(channels):

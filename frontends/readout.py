@@ -1,5 +1,6 @@
 """The readout: crossings as they come, what becomes of them, and the buffer to the wire."""
 
+from frontends.busy import busy_behind, busy_by_marks
 from frontends.frames import frame_of
 
 NOT_ASKED = 0
@@ -38,7 +39,8 @@ class Readout:
         self.highs.append(self.highs_at(samples))
         self.fates.append(self.fate_of(asked))
         self.make_frame(self.known() - 1)
-        self.busies.append(self.busy_now())
+        busy_before = busy_behind(self.busies, len(self.busies) - 1)
+        self.busies.append(busy_by_marks(self.settings, self.waiting(), busy_before))
         self.most = max(self.most, self.waiting())
 
     def come_often(self, often, asked, samples):
@@ -56,8 +58,9 @@ class Readout:
         """Gives how many crossings are known: all but the last so many as are kept ahead."""
         return max(0, len(self.highs) - self.settings.ahead)
 
-    def busy_behind(self, crossing):
-        return crossing >= 0 and self.busies[crossing] == 1
+    def busy_seen(self, crossing):
+        """Tells whether busy is seen at a crossing, whatever becomes of it."""
+        return busy_behind(self.busies, crossing - self.settings.delay - 1) == 1
 
     def highs_at(self, samples):
         """Tells of each channel whether it is high at the crossing that comes now."""
@@ -75,7 +78,7 @@ class Readout:
             return NOT_ASKED
         if TAKEN in self.fates[max(0, now - self.settings.gap):]:
             return DEAD_BY_GAP
-        if self.busy_behind(now - self.settings.delay - 1):
+        if self.busy_seen(now):
             return DEAD_BY_BUSY
         return TAKEN
 
@@ -99,10 +102,3 @@ class Readout:
         first = max(0, crossing - self.settings.behind)
         end = crossing + self.settings.ahead + 1
         return any([highs[place] for highs in self.highs[first:end]])
-
-    def busy_now(self):
-        if self.waiting() > self.settings.high_mark:
-            return 1
-        if self.waiting() <= self.settings.low_mark:
-            return 0
-        return 1 if self.busy_behind(len(self.busies) - 1) else 0

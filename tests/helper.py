@@ -4,7 +4,8 @@ from frontends.crossings import answers
 
 NUMBERS = {
     "settings": 0, "check": 1, "print": 2, "cross": 3, "times": 4, "wire": 5,
-    "kept": 6, "high": 7, "counts": 8, "frame": 9, "margin": 10,
+    "kept": 6, "high": 7, "counts": 8, "frame": 9, "margin": 10, "worst": 11, "play": 12,
+    "pack": 13, "feed": 14, "heard": 15, "crc": 16, "hush": 17, "live": 18, "dead": 19, "state": 20,
 }
 
 
@@ -42,6 +43,14 @@ def ask(*calls):
 
 def last(*calls):
     return ask(*calls)[-1]
+
+
+def in_lists(calls, before, most=100):
+    """The answers to many calls, so many to a list; calls of before stand at each list's beginning."""
+    found = []
+    for start in range(0, len(calls), most):
+        found += ask(*before, *calls[start:start + most])[len(before):]
+    return found
 
 
 def channels_text(count, rest=""):

@@ -1,4 +1,7 @@
-"""A slow second reading of the document: everything is told anew from the row of all crossings."""
+"""A slow second reading of the document: everything is told anew from the row of all that came."""
+
+import re
+from fractions import Fraction
 
 DIVISOR = "100010001000011"
 
@@ -27,6 +30,52 @@ def frame(crossing, samples):
         bits += "0"
     signs = [int(bits[n:n + 7], 2) for n in range(0, len(bits), 7)]
     return [128, len(signs)] + signs + check([len(signs)] + signs) + [129]
+
+
+def told_by(inside, channels):
+    """What a frame with this between its ends tells: the crossing, how many samples, pairs; None if none has it."""
+    count, signs, rest = inside[:1], inside[1:-2], inside[-2:]
+    if len(inside) < 3 or count != [len(signs)] or max(inside) > 127 or rest != check(count + signs):
+        return None
+    bits = "".join(f"{sign:07b}" for sign in signs)
+    found = re.fullmatch("([01]{12})([01]{%d})([01]{4})([01]*)" % channels, bits)
+    if not found:
+        return None
+    crossing, marks, width, tail = found.groups()
+    width, kept = int(width, 2), [n for n, mark in enumerate(marks, start=1) if mark == "1"]
+    samples, filling = tail[:width * len(kept)], tail[width * len(kept):]
+    if len(samples) < width * len(kept) or len(filling) > 6 or "1" in filling or width > 12:
+        return None
+    samples = [int(samples[n * width:n * width + width] or "0", 2) for n in range(len(kept))]
+    if width and max(samples, default=0) < 2 ** (width - 1):
+        return None
+    return [int(crossing, 2), len(kept)] + [n for pair in zip(kept, samples) for n in pair]
+
+
+def heard(octets, channels):
+    """What the frames that are read in these bytes tell, how many are bad, and what heard answers behind them."""
+    found, bad, begun = [], 0, -1
+    for piece in re.finditer(b"\x80([^\x80\x81]*)(\x81?)", bytes(octets)):
+        inside = list(piece.group(1))
+        if piece.end() == len(octets) and not piece.group(2):
+            begun = len(inside)
+            continue
+        told = told_by(inside, channels) if piece.group(2) else None
+        if told:
+            found.append(told)
+        else:
+            bad += 1
+    return found, bad, [0, len(found), bad, begun]
+
+
+def played(rate, high, low, late, yields):
+    fills, busies, stopped = [0], [False] * late, 0
+    for coming in yields:
+        if busies[-late]:
+            coming, stopped = 0, stopped + 1
+        fills.append(max(fills[-1] - rate, 0) + coming)
+        busies.append(fills[-1] > high or (fills[-1] > low and busies[-1]))
+    return [0, max(fills), stopped, fills[-1]]
 
 
 def stretches(numbers):
@@ -103,6 +152,19 @@ class Model:
         if self.fates[crossing] != 1:
             return [-7]
         return [0] + self.frames[crossing] if crossing in self.frames else [-8]
+
+    def live(self):
+        asked = len(self.fates) - self.fates.count(0)
+        part = Fraction(self.fates.count(1), asked) if asked else Fraction(0)
+        return [0, part.numerator, part.denominator]
+
+    def dead(self):
+        seen = [behind + self.delay + 1 for behind, busy in enumerate(self.busy) if busy]
+        return [0] + stretches([crossing for crossing in seen if crossing < len(self.row)])
+
+    def state(self):
+        marks = [self.depth, self.rate, self.top, self.low]
+        return [0, len(self.channels), self.ahead, self.behind] + marks + [self.delay, self.gap, len(self.row)]
 
     def margin(self):
         longest = 5 + -(-(16 + 13 * len(self.channels)) // 7)

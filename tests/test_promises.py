@@ -44,13 +44,15 @@ class Promises(unittest.TestCase):
         calls = [("times", often, asked, samples) if often else ("cross", asked, samples)
                  for asked, samples, often in pieces]
         count = len(settings[0])
-        asked_for = [("counts",), ("margin",)] + [("frame", n) for n in range(0, len(row) + 2, 1 + len(row) // 30)]
+        asked_for = [("counts",), ("margin",), ("live",), ("dead",), ("state",)]
+        asked_for += [("frame", n) for n in range(0, len(row) + 2, 1 + len(row) // 30)]
         for channel in range(1, count + 1):
             asked_for += [("kept", channel), ("high", channel)]
         wires = [("wire", n, 300) for n in range(0, len(model.wire) + 1, 300)]
         found = ask(("settings", told(*settings)), *calls, *asked_for, *wires)
         self.came(model, pieces, found[1:1 + len(calls)])
-        due = [model.counts(), model.margin()] + [model.frame(call[1]) for call in asked_for if call[0] == "frame"]
+        due = [model.counts(), model.margin(), model.live(), model.dead(), model.state()]
+        due += [model.frame(call[1]) for call in asked_for if call[0] == "frame"]
         for channel in range(count):
             due += [[0] + stretches(model.keeps[channel]), [0] + stretches(model.highs[channel])]
         self.assertEqual(found[1 + len(calls):-len(wires)], due)

@@ -3,11 +3,17 @@
 import unittest
 
 from tests.helper import ask, channels_text, last
+from tests.model import frame
 
-BEGUN = [("settings", channels_text(2, "keep 1 1\ngap 1\nbuffer 60 rate 3 high 30 low 10")), ("times", 20, 1, [5, 0])]
+HEARD = frame(8, [9, None])
+BEGUN = [
+    ("settings", channels_text(2, "keep 1 1\ngap 1\nbuffer 60 rate 3 high 30 low 10")), ("times", 20, 1, [5, 0]),
+    ("feed", HEARD + [128, 129] + HEARD[:4]),
+]
 SHOWN = [
     ("print",), ("counts",), ("wire", 0, 300), ("high", 1), ("high", 2), ("kept", 1), ("kept", 2), ("frame", 0),
-    ("margin",), ("cross", 1, [1, 2]), ("counts",), ("wire", 0, 300),
+    ("margin",), ("cross", 1, [1, 2]), ("counts",), ("wire", 0, 300), ("heard",), ("feed", HEARD[4:]), ("heard",),
+    ("live",), ("dead",), ("state",), ("worst",), ("play", [10] * 30), ("pack", 1, [2, 2]),
 ]
 FAR = 10 ** 18
 
@@ -17,8 +23,8 @@ class Refusals(unittest.TestCase):
         for call in calls:
             with self.subTest(call=call):
                 found = ask(*BEGUN, call, *SHOWN)
-                self.assertEqual(found[2], [number])
-                self.assertEqual(found[3:], ask(*BEGUN, *SHOWN)[2:])
+                self.assertEqual(found[3], [number])
+                self.assertEqual(found[4:], ask(*BEGUN, *SHOWN)[3:])
 
     def test_asked_out_of_range(self):
         for asked in (-1, 2, FAR, -FAR):
@@ -77,12 +83,26 @@ class Refusals(unittest.TestCase):
 
     def test_frame_not_known(self):
         found = ask(*BEGUN, ("cross", 0, [0, 0]), ("cross", 1, [1, 1]), ("frame", 21))
-        self.assertEqual(found[3][:2], [0, 1])
-        self.assertEqual(found[4], [-8])
+        self.assertEqual(found[4][:2], [0, 1])
+        self.assertEqual(found[5], [-8])
 
     def test_texts(self):
         self.refused(-3, ("settings", "gap"), ("settings", channels_text(9)))
         self.refused(-1, ("settings", [256]), ("settings", [32] * 1001), ("check", [-1]), ("check", [10] * 1100))
+
+    def test_yields(self):
+        self.refused(-1, *[("play", row) for row in ([-1], [101], [12, FAR], [0] * 501, [12] * 1100)])
+        self.refused(-9, *[("play", row) for row in ([12], [100], [11] * 499 + [12])])
+
+    def test_pairs(self):
+        self.refused(-1, *[("pack", crossing, [3, 1]) for crossing in (-1, 4096, FAR, -FAR)])
+        self.refused(-1, *[("pack", 0, row) for row in ([1], [1, 4096], [0, 1], [9, 1], [1, -1], [1, 1] * 9, [2] * 1100)])
+        self.refused(-5, *[("pack", 0, row) for row in ([3, 0], [8, 0], [1, 0, 3, 0], [3, 0, 1, 0], [3, 0, 3, 0])])
+        self.refused(-7, *[("pack", 0, row) for row in ([2, 0, 1, 0], [1, 0, 1, 0], [1, 0, 2, 0, 2, 0])])
+
+    def test_bytes_and_signs(self):
+        self.refused(-1, *[("feed", row) for row in ([-1], [256], [129, FAR], HEARD + [256], [129] * 401, [1] * 1100)])
+        self.refused(-1, *[("crc", row) for row in ([-1], [128], [0, FAR], [0] * 101, [1] * 1100)])
 
 
 if __name__ == "__main__":
